@@ -1,0 +1,20 @@
+package rules_test
+
+import "testing"
+
+// TestWays: each layer that is built leans on the ways that its chapter names.
+func TestWays(t *testing.T) {
+	for face, wanted := range map[string][]string{
+		"codec":   {"errors-as", "fallthrough"},
+		"simdisk": {"errors-as", "method-value"},
+		"simnet":  {"map", "struct-compared", "range-map"},
+	} {
+		miss, err := WaysMissing("..", "gazette", []string{face}, wanted)
+		if err != nil {
+			t.Fatal(err)
+		}
+		for _, m := range miss {
+			t.Errorf("%s: way missing: %s", face, m)
+		}
+	}
+}
