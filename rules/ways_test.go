@@ -8,6 +8,7 @@ func TestWays(t *testing.T) {
 		"codec":   {"errors-as", "fallthrough"},
 		"simdisk": {"errors-as", "method-value"},
 		"simnet":  {"map", "struct-compared", "range-map"},
+		"wal":     {"errors-as", "fallthrough"},
 	} {
 		miss, err := WaysMissing("..", "gazette", []string{face}, wanted)
 		if err != nil {
