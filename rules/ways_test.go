@@ -5,10 +5,11 @@ import "testing"
 // TestWays: each layer that is built leans on the ways that its chapter names.
 func TestWays(t *testing.T) {
 	for face, wanted := range map[string][]string{
-		"codec":   {"errors-as", "fallthrough"},
-		"simdisk": {"errors-as", "method-value"},
-		"simnet":  {"map", "struct-compared", "range-map"},
-		"wal":     {"errors-as", "fallthrough"},
+		"codec":    {"errors-as", "fallthrough"},
+		"simdisk":  {"errors-as", "method-value"},
+		"simnet":   {"map", "struct-compared", "range-map"},
+		"wal":      {"errors-as", "fallthrough"},
+		"walindex": {"fallthrough", "errors-is"},
 	} {
 		miss, err := WaysMissing("..", "gazette", []string{face}, wanted)
 		if err != nil {
