@@ -2,7 +2,14 @@
 package copies
 
 // List is a copy of a list whose elements are whole by themselves.
-func List[T any](l []T) []T { return append([]T(nil), l...) }
+func List[T any](l []T) []T {
+	if len(l) == 0 {
+		return nil
+	}
+	c := make([]T, len(l))
+	copy(c, l)
+	return c
+}
 
 // Each is a copy of a list whose elements have lists of their own.
 func Each[T any](l []T, one func(T) T) []T {

@@ -10,6 +10,7 @@ func TestWays(t *testing.T) {
 		"simnet":   {"map", "struct-compared", "range-map"},
 		"wal":      {"errors-as", "fallthrough"},
 		"walindex": {"fallthrough", "errors-is"},
+		"raftlog":  {"closure", "range-function", "copy"},
 	} {
 		miss, err := WaysMissing("..", "gazette", []string{face}, wanted)
 		if err != nil {
