@@ -11,6 +11,9 @@ func TestWays(t *testing.T) {
 		"wal":      {"errors-as", "fallthrough"},
 		"walindex": {"fallthrough", "errors-is"},
 		"raftlog":  {"closure", "range-function", "copy"},
+		"quorum":   {"generic-function", "variadic"},
+		"raftconf": {"fallthrough", "struct-compared"},
+		"raftsnap": {"three-index", "copy"},
 	} {
 		miss, err := WaysMissing("..", "gazette", []string{face}, wanted)
 		if err != nil {
