@@ -45,3 +45,12 @@ func View(v api.View) api.View {
 	v.Log = Log(v.Log)
 	return v
 }
+
+// Raft is a copy of a node's state in a group.
+func Raft(s api.Raft) api.Raft {
+	s.Log = Log(s.Log)
+	s.Ballots = List(s.Ballots)
+	s.Peers = List(s.Peers)
+	s.Part.Data = List(s.Part.Data)
+	return s
+}

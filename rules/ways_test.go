@@ -14,6 +14,7 @@ func TestWays(t *testing.T) {
 		"quorum":   {"generic-function", "variadic"},
 		"raftconf": {"fallthrough", "struct-compared"},
 		"raftsnap": {"three-index", "copy"},
+		"raftcore": {"method-value", "fallthrough"},
 	} {
 		miss, err := WaysMissing("..", "gazette", []string{face}, wanted)
 		if err != nil {
