@@ -15,6 +15,7 @@ func TestWays(t *testing.T) {
 		"raftconf": {"fallthrough", "struct-compared"},
 		"raftsnap": {"three-index", "copy"},
 		"raftcore": {"method-value", "fallthrough"},
+		"beats":    {"map", "range-integer"},
 	} {
 		miss, err := WaysMissing("..", "gazette", []string{face}, wanted)
 		if err != nil {
