@@ -5,17 +5,18 @@ import "testing"
 // TestWays: each layer that is built leans on the ways that its chapter names.
 func TestWays(t *testing.T) {
 	for face, wanted := range map[string][]string{
-		"codec":    {"errors-as", "fallthrough"},
-		"simdisk":  {"errors-as", "method-value"},
-		"simnet":   {"map", "struct-compared", "range-map"},
-		"wal":      {"errors-as", "fallthrough"},
-		"walindex": {"fallthrough", "errors-is"},
-		"raftlog":  {"closure", "range-function", "copy"},
-		"quorum":   {"generic-function", "variadic"},
-		"raftconf": {"fallthrough", "struct-compared"},
-		"raftsnap": {"three-index", "copy"},
-		"raftcore": {"method-value", "fallthrough"},
-		"beats":    {"map", "range-integer"},
+		"codec":     {"errors-as", "fallthrough"},
+		"simdisk":   {"errors-as", "method-value"},
+		"simnet":    {"map", "struct-compared", "range-map"},
+		"wal":       {"errors-as", "fallthrough"},
+		"walindex":  {"fallthrough", "errors-is"},
+		"raftlog":   {"closure", "range-function", "copy"},
+		"quorum":    {"generic-function", "variadic"},
+		"raftconf":  {"fallthrough", "struct-compared"},
+		"raftsnap":  {"three-index", "copy"},
+		"raftcore":  {"method-value", "fallthrough"},
+		"beats":     {"map", "range-integer"},
+		"multiraft": {"embedding", "promoted", "map", "errors-is"},
 	} {
 		miss, err := WaysMissing("..", "gazette", []string{face}, wanted)
 		if err != nil {
