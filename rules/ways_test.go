@@ -17,6 +17,7 @@ func TestWays(t *testing.T) {
 		"raftcore":  {"method-value", "fallthrough"},
 		"beats":     {"map", "range-integer"},
 		"multiraft": {"embedding", "promoted", "map", "errors-is"},
+		"keyrange":  {"struct-compared", "method-value"},
 	} {
 		miss, err := WaysMissing("..", "gazette", []string{face}, wanted)
 		if err != nil {
