@@ -18,6 +18,7 @@ func TestWays(t *testing.T) {
 		"beats":     {"map", "range-integer"},
 		"multiraft": {"embedding", "promoted", "map", "errors-is"},
 		"keyrange":  {"struct-compared", "method-value"},
+		"records":   {"generic-function", "method-value"},
 	} {
 		miss, err := WaysMissing("..", "gazette", []string{face}, wanted)
 		if err != nil {
