@@ -19,6 +19,7 @@ func TestWays(t *testing.T) {
 		"multiraft": {"embedding", "promoted", "map", "errors-is"},
 		"keyrange":  {"struct-compared", "method-value"},
 		"records":   {"generic-function", "method-value"},
+		"producers": {"generic-function", "closure"},
 	} {
 		miss, err := WaysMissing("..", "gazette", []string{face}, wanted)
 		if err != nil {
