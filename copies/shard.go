@@ -20,3 +20,11 @@ func Records(l []api.Record) []api.Record {
 		return x
 	})
 }
+
+// Part is a copy of a shard's state.
+func Part(p api.Part) api.Part {
+	p.Records = Records(p.Records)
+	p.Producers = List(p.Producers)
+	p.Consumers = List(p.Consumers)
+	return p
+}

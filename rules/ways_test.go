@@ -20,6 +20,7 @@ func TestWays(t *testing.T) {
 		"keyrange":  {"struct-compared", "method-value"},
 		"records":   {"generic-function", "method-value"},
 		"producers": {"generic-function", "closure"},
+		"partfsm":   {"errors-is", "errors-as", "fallthrough"},
 	} {
 		miss, err := WaysMissing("..", "gazette", []string{face}, wanted)
 		if err != nil {
