@@ -21,6 +21,7 @@ func TestWays(t *testing.T) {
 		"records":   {"generic-function", "method-value"},
 		"producers": {"generic-function", "closure"},
 		"partfsm":   {"errors-is", "errors-as", "fallthrough"},
+		"lineage":   {"errors-is", "closure"},
 	} {
 		miss, err := WaysMissing("..", "gazette", []string{face}, wanted)
 		if err != nil {
