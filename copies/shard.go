@@ -28,3 +28,35 @@ func Part(p api.Part) api.Part {
 	p.Consumers = List(p.Consumers)
 	return p
 }
+
+// Shard is a copy of a shard.
+func Shard(s api.Shard) api.Shard {
+	s.Nodes = List(s.Nodes)
+	s.Past = List(s.Past)
+	return s
+}
+
+// Shards is a copy of shards.
+func Shards(l []api.Shard) []api.Shard { return Each(l, Shard) }
+
+// Topics is a copy of topics.
+func Topics(l []api.Topic) []api.Topic {
+	return Each(l, func(t api.Topic) api.Topic { return api.Topic{Name: t.Name, Shards: Shards(t.Shards)} })
+}
+
+// Plans is a copy of plans.
+func Plans(l []api.Plan) []api.Plan {
+	return Each(l, func(p api.Plan) api.Plan {
+		p.Into = List(p.Into)
+		p.Nodes = List(p.Nodes)
+		return p
+	})
+}
+
+// Place is a copy of the placement's state.
+func Place(p api.Place) api.Place {
+	p.Producers = List(p.Producers)
+	p.Topics = Topics(p.Topics)
+	p.Plans = Plans(p.Plans)
+	return p
+}

@@ -22,6 +22,7 @@ func TestWays(t *testing.T) {
 		"producers": {"generic-function", "closure"},
 		"partfsm":   {"errors-is", "errors-as", "fallthrough"},
 		"lineage":   {"errors-is", "closure"},
+		"placement": {"fallthrough", "errors-as", "generic-function"},
 	} {
 		miss, err := WaysMissing("..", "gazette", []string{face}, wanted)
 		if err != nil {
