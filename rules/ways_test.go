@@ -23,6 +23,7 @@ func TestWays(t *testing.T) {
 		"partfsm":   {"errors-is", "errors-as", "fallthrough"},
 		"lineage":   {"errors-is", "closure"},
 		"placement": {"fallthrough", "errors-as", "generic-function"},
+		"plans":     {"closure", "array", "fallthrough"},
 	} {
 		miss, err := WaysMissing("..", "gazette", []string{face}, wanted)
 		if err != nil {
