@@ -60,3 +60,14 @@ func Place(p api.Place) api.Place {
 	p.Plans = Plans(p.Plans)
 	return p
 }
+
+// Applied is a copy of what was committed.
+func Applied(a api.Applied) api.Applied {
+	a.Data = List(a.Data)
+	return a
+}
+
+// Story is a copy of a group's story.
+func Story(s api.Story) api.Story {
+	return api.Story{Group: s.Group, Seed: List(s.Seed), Entries: Each(s.Entries, Applied)}
+}
