@@ -24,6 +24,11 @@ func TestWays(t *testing.T) {
 		"lineage":   {"errors-is", "closure"},
 		"placement": {"fallthrough", "errors-as", "generic-function"},
 		"plans":     {"closure", "array", "fallthrough"},
+		"broker":    {"errors-as", "map", "range-map", "fallthrough"},
+		"client":    {"method-expression", "generic-function"},
+		"cluster":   {"method-expression", "embedding", "map"},
+		"history":   {"errors-as", "fallthrough", "map"},
+		"console":   {"map", "closure", "errors-is", "type-switch"},
 	} {
 		miss, err := WaysMissing("..", "gazette", []string{face}, wanted)
 		if err != nil {
