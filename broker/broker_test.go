@@ -359,3 +359,27 @@ func TestCompaction(t *testing.T) {
 		t.Error(l)
 	}
 }
+
+// TestGroupsThatHaveEnded: a group whose number was given, and that nothing has any more, is destroyed; whoever waits for it waits in vain.
+func TestGroupsThatHaveEnded(t *testing.T) {
+	for next, gone := range map[uint64]bool{5: false, 6: true} {
+		b, h := newBroker(t, 1), alone(t)
+		told(t, b, h, "")
+		ask(t, b, h, asked(3, 1), "")
+		p := placement.New()
+		p.NextGroup = next
+		b.Told([]api.Applied{{Group: 0, Index: 2, Term: 2, Snapshot: true, Data: placement.Bytes(p)}})
+		want := ""
+		if gone {
+			want = "3: e203"
+		}
+		if got := replies(t, b.Tick(h)); got != want {
+			t.Error(next, got)
+		}
+		_, live := h.Status(5)
+		_, _, known := b.Shard(5)
+		if live == gone || known == gone {
+			t.Error(next, live, known)
+		}
+	}
+}
